@@ -1,0 +1,1 @@
+"""Carry: bags through a house of belts."""
