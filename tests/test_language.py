@@ -1,6 +1,6 @@
 """The package keeps to ../shared/LANGUAGE.md: the rules that can be seen in one file's tree.
 
-L11, L13, L15, L18 to L20 and L22 to L24, L26 and L28 are looked at in part or not at all here.
+L11, L13, L15, L18, L19, L22 to L24, L26 and L28 are looked at in part or not at all here.
 """
 
 import ast
@@ -38,6 +38,12 @@ WORDS = re.compile(
     r"\b(type|typing|typing_extensions|enum|Enum|IntEnum|StrEnum|Flag|IntFlag|Generic|Protocol|ABC|ABCMeta"
     r"|namedtuple|NamedTuple|TypedDict|TYPE_CHECKING|abstractmethod)\b|dataclass|overload|contextmanager"
 )
+KEYWORDS = {
+    "sorted": ("key", "reverse"), "min": ("key", "default"), "max": ("key", "default"),
+    "sum": ("start",), "enumerate": ("start",), "zip": ("strict",),
+}
+WALKED = ("zip", "enumerate", "reversed", "range")
+WALKERS = ("list", "tuple", "dict", "sorted", "sum", "any", "all", "enumerate", "zip", "min", "max")
 PYTHONS_OWN = {name for kind in (str, int, list, dict, set, bytes, tuple) for name in dir(kind)}
 
 
@@ -77,6 +83,7 @@ def node_faults(node, docstring):
         yield "L27: a percent sign in a text"
     yield from scope_faults(node)
     yield from name_faults(node)
+    yield from use_faults(node)
 
 
 def scope_faults(node):
@@ -126,6 +133,51 @@ def name_faults(node):
             yield f"L17: {name}"
 
 
+def use_faults(node):
+    if isinstance(node, ast.Compare):
+        for sign, beside in zip(node.ops, node.comparators):
+            plain = isinstance(beside, ast.Constant) and (beside.value is None or isinstance(beside.value, bool))
+            if isinstance(sign, (ast.Is, ast.IsNot)) and not plain:
+                yield "L20: is beside another thing"
+    if isinstance(node, ast.Call) and node.keywords:
+        name = node.func.id if isinstance(node.func, ast.Name) else None
+        if isinstance(node.func, ast.Attribute) or name in OWN_NAMES:
+            if not all(keyword.arg in KEYWORDS.get(name, ()) for keyword in node.keywords):
+                yield "L22: a keyword at a name of Python's own"
+    if isinstance(node, ast.BinOp) and isinstance(node.op, ast.Pow) and not isinstance(node.right, ast.Constant):
+        yield "L27: an exponent that is not written"
+
+
+def walk_faults(tree):
+    """L23: what is walked at once but is kept; L24: sets at all, as the program has none."""
+    walked = []
+    for node in ast.walk(tree):
+        if isinstance(node, (ast.For, ast.comprehension)):
+            walked.append(node.iter)
+        if isinstance(node, ast.Call) and isinstance(node.func, ast.Name) and node.func.id in WALKERS:
+            walked += node.args
+    for node in ast.walk(tree):
+        if isinstance(node, ast.Call) and node not in walked:
+            if isinstance(node.func, ast.Name) and node.func.id in WALKED:
+                yield f"line {node.lineno}: L23: {node.func.id}"
+            if isinstance(node.func, ast.Attribute) and node.func.attr in ("items", "keys", "values"):
+                yield f"line {node.lineno}: L23: {node.func.attr}"
+        if isinstance(node, ast.Set) or isinstance(node, ast.Name) and node.id in ("set", "frozenset"):
+            yield f"line {node.lineno}: L24: a set"
+
+
+def local_faults(tree):
+    """L15: parameters and locals that are called like a class or an import of their file."""
+    taken = [row.name for row in tree.body if isinstance(row, ast.ClassDef)]
+    for row in tree.body:
+        if isinstance(row, ast.ImportFrom):
+            taken += [alias.asname or alias.name for alias in row.names]
+    for node in ast.walk(tree):
+        bound = isinstance(node, ast.Name) and isinstance(node.ctx, ast.Store)
+        if bound and node.id in taken or isinstance(node, ast.arg) and node.arg in taken:
+            yield f"line {node.lineno}: L15: called like a class or an import"
+
+
 class Language(unittest.TestCase):
     def test_only_python_files_with_plain_names(self):
         self.assertIn("__init__.py", [path.name for path in parts()])
@@ -149,6 +201,8 @@ class Language(unittest.TestCase):
         for name, tree in trees():
             with self.subTest(name):
                 self.assertEqual(list(faults(tree)), [])
+                self.assertEqual(list(walk_faults(tree)), [])
+                self.assertEqual(list(local_faults(tree)), [])
 
     def test_top_of_a_file(self):
         for name, tree in trees():
@@ -187,17 +241,28 @@ class Faults(unittest.TestCase):
             "def f(min):\n    pass", "def f():\n    'words'\n    return 1", "x.sort()", "x._y()", "_x = 1",
             "class A:\n    x = 1", "with x:\n    pass", "assert x", "del x", "for a in b:\n    pass\nelse:\n    pass",
             "x = f'{a.b}'", "x = f'{a:3}'", "x = '%'", "try:\n    f()\nexcept:\n    pass", "x = chr(1)",
+            "x = a is b", "x = a is 1", "x = a.split(sep=b)", "x = str(object=a)", "x = sorted(a, cmp=b)", "x = 2 ** a",
         ):
             with self.subTest(text):
                 self.assertNotEqual(list(faults(ast.parse(text))), [])
+
+    def test_sees_what_is_kept_and_names_that_are_taken(self):
+        for text in ("x = zip(a, b)", "x = a.items()", "f(range(3))", "x = {1, 2}", "x = set(a)"):
+            with self.subTest(text):
+                self.assertNotEqual(list(walk_faults(ast.parse(text))), [])
+        for text in ("def f(g):\n    pass", "def f():\n    g = 1", "def f():\n    for g in a:\n        pass"):
+            with self.subTest(text):
+                self.assertNotEqual(list(local_faults(ast.parse("from carry.names import g\n" + text))), [])
 
     def test_lets_plain_code_be(self):
         text = (
             '"""Words."""\nfrom carry.names import is_name\nX = "a"\n\n\ndef f(a, b=1):\n'
             "    for k, c in enumerate(a):\n        if c in X and not is_name(c):\n"
-            "            raise NoName(f'{c} {k!r}')\n    return [c for c in a if c != b]\n"
+            "            raise NoName(f'{c} {k!r}')\n    d = None\n    if d is None and b is not True:\n"
+            "        d = sorted(range(b ** 2), key=len, reverse=True)\n    return [c for c in a if c != b]\n"
         )
-        self.assertEqual(list(faults(ast.parse(text))), [])
+        for look in (faults, walk_faults, local_faults):
+            self.assertEqual(list(look(ast.parse(text))), [])
 
 
 if __name__ == "__main__":
