@@ -6,6 +6,7 @@ Here are houses to try as well. Nothing here draws from the package.
 import functools
 import itertools
 import random
+import re
 
 
 def plain_belt(house, name):
@@ -179,3 +180,246 @@ def some_places(seed, house, most):
     chance = random.Random(seed)
     places = all_places(house)
     return chance.sample(places, min(len(places), chance.randint(0, most)))
+
+
+def plain_arm(house, belt, cart):
+    """The first of the outs that are the least far."""
+    best = None
+    for out in plain_belt(house, belt)[3]:
+        behind = 0 if out == cart else None if out in house[1] else plain_far(house, (out, 0), cart)
+        if behind is not None and (best is None or behind < best[0]):
+            best = (behind, out)
+    return None if best is None else best[1]
+
+
+def soonest_by_moments(house, places, cart):
+    """Turn by turn all the ways in which the bags can stand in the house, till in one of them none is left."""
+    now, turns = {frozenset(places)}, 0
+    while frozenset() not in now:
+        reach = set()
+        for bags in now:
+            # The bags go one by one, each to where none went ahead of it at this turn.
+            some = {frozenset()}
+            for place in bags:
+                goals = [goal for goal in plain_steps(house, place) + [place]
+                         if goal == cart or isinstance(goal, tuple)]
+                some = {kept if goal == cart else kept | {goal}
+                        for kept in some for goal in goals if goal not in kept}
+            reach |= some
+        now, turns = reach, turns + 1
+    return turns
+
+
+class PlainHall:
+    """A hall by the document's words; a deed tells the name of its refusal's class, or None."""
+
+    def __init__(self, house, rounds):
+        self.house, self.rounds, self.moment = house, rounds, 0
+        self.flights, self.stopped, self.bags, self.out, self.names = [], set(), [], [], set()
+
+    def flight_called(self, name):
+        return next((one for one in self.flights if one["name"] == name and not one["off"]), None)
+
+    def flight(self, name, cart, closing):
+        if re.fullmatch("[a-z]{1,8}", name) is None or self.flight_called(name):
+            return "NoName"
+        if cart not in self.house[1] or cart == self.house[1][0]:
+            return "NoOut"
+        if closing < 0:
+            return "NoMoment"
+        self.flights.append({"name": name, "cart": cart, "closing": closing, "off": False})
+
+    def change(self, name, closing):
+        if not self.flight_called(name):
+            return "NoFlight"
+        if closing < 0:
+            return "NoMoment"
+        self.flight_called(name)["closing"] = closing
+
+    def call_off(self, name):
+        if not self.flight_called(name):
+            return "NoFlight"
+        self.flight_called(name)["off"] = True
+
+    def put(self, bag, flight, belt):
+        if re.fullmatch("[a-z]{1,8}", bag) is None or bag in self.names:
+            return "NoName"
+        if flight is not None and not self.flight_called(flight):
+            return "NoFlight"
+        if belt not in [one[0] for one in self.house[0]]:
+            return "NoBelt"
+        if self.bag_at((belt, 0)):
+            return "NoRoom"
+        self.names.add(bag)
+        self.bags.append({"name": bag, "flight": self.flight_called(flight), "place": (belt, 0), "rounds": 0})
+
+    def read(self, bag, flight):
+        found = [one for one in self.bags if one["name"] == bag]
+        if not found:
+            return "NoBag"
+        if not self.flight_called(flight):
+            return "NoFlight"
+        found[0]["flight"] = self.flight_called(flight)
+
+    def stop(self, belt):
+        if belt not in [one[0] for one in self.house[0]]:
+            return "NoBelt"
+        self.stopped.add(belt)
+
+    def start(self, belt):
+        if belt not in [one[0] for one in self.house[0]]:
+            return "NoBelt"
+        self.stopped.discard(belt)
+
+    def bag_at(self, place):
+        return next((one for one in self.bags if one["place"] == place), None)
+
+    def in_order(self):
+        return [self.bag_at(place) for place in all_places(self.house) if self.bag_at(place)]
+
+    def flight_now(self, one):
+        return one["flight"] if one["flight"] and not one["flight"]["off"] else None
+
+    def cart_now(self, one):
+        flight = self.flight_now(one)
+        if flight:
+            least = plain_far(self.house, one["place"], flight["cart"])
+            if least is not None and self.moment + least <= flight["closing"]:
+                return flight["cart"]
+        return self.house[1][0]
+
+    def want(self, one):
+        name, long, ring, outs = plain_belt(self.house, one["place"][0])
+        if one["place"][1] < long - 1:
+            return (name, one["place"][1] + 1)
+        out = plain_arm(self.house, name, self.cart_now(one))
+        if ring and not self.flight_now(one) and one["rounds"] < self.rounds:
+            return (name, 0)
+        if ring and (out in self.stopped or self.bag_at((out, 0))):
+            return (name, 0)
+        return out if out in self.house[1] else (out, 0)
+
+    def first_why(self, one, wants):
+        """Of the first two reasons the one that is so, or None."""
+        goal = wants[one["name"]]
+        for place in (one["place"], goal):
+            if isinstance(place, tuple) and place[0] in self.stopped:
+                return ("stopped", place[0])
+        if isinstance(goal, str):
+            return None
+        rivals = [other for other in self.in_order() if wants[other["name"]] == goal
+                  and other["place"][0] not in self.stopped]
+        own = [other for other in rivals if other["place"][0] == goal[0]]
+        first = (own + rivals)[0]
+        return None if first is one else ("yields", first["name"])
+
+    def why(self, one, wants, seen=()):
+        """Why it stands, or None: it hangs on the bag in the cell that it wants, and so on along the row."""
+        first = self.first_why(one, wants)
+        other = self.bag_at(wants[one["name"]])
+        if first or not other or other["name"] in seen:
+            return first
+        if self.why(other, wants, seen + (one["name"],)):
+            return ("behind", other["name"])
+        return None
+
+    def wanted(self):
+        return [(one["name"], self.want(one)) for one in self.in_order()]
+
+    def turn(self):
+        wants = dict(self.wanted())
+        whys = [(one, self.why(one, wants)) for one in self.in_order()]
+        self.moment += 1
+        log = []
+        for one, why in whys:
+            was, goal = one["place"], wants[one["name"]]
+            log.append((one["name"], was, goal if why is None else was, why))
+            if why is None and isinstance(goal, str):
+                self.bags.remove(one)
+                self.out.append((one["name"], goal, self.moment))
+            elif why is None:
+                # One turns back to cell 0 of its own belt only from a ring's last cell.
+                one["rounds"] += goal == (was[0], 0)
+                one["place"] = goal
+        return log
+
+    def told(self):
+        """All that a hall tells, as told_by has it of one."""
+        flights = [one for one in self.flights if not one["off"]]
+        bags = self.in_order()
+        named = {one["name"]: self.flight_now(one) and self.flight_now(one)["name"] for one in bags}
+        return {
+            "moment": self.moment,
+            "flights": sorted((one["name"], one["cart"], one["closing"]) for one in flights),
+            "stopped": [belt[0] for belt in self.house[0] if belt[0] in self.stopped],
+            "bags": [(one["name"], named[one["name"]], one["place"], one["rounds"]) for one in bags],
+            "out": list(self.out),
+            "late": [one["name"] for one in bags
+                     if self.flight_now(one) and self.cart_now(one) == self.house[1][0]],
+            "where": [one["place"] for one in bags] + [cart for bag, cart, moment in self.out],
+            "cart_of": [self.cart_now(one) for one in bags],
+            "house": self.house,
+            "rounds": self.rounds,
+        }
+
+
+def told_by(hall):
+    """All that a hall tells."""
+    names = [bag for bag, flight, place, rounds in hall.bags()]
+    return {
+        "moment": hall.moment(), "flights": hall.flights(), "stopped": hall.stopped(), "bags": hall.bags(),
+        "out": hall.out(), "late": hall.late(),
+        "where": [hall.where(bag) for bag in names + [bag for bag, cart, moment in hall.out()]],
+        "cart_of": [hall.cart_of(bag) for bag in names],
+        "house": hall.house(), "rounds": hall.rounds(),
+    }
+
+
+def some_deeds(seed, house, count, wrong=0.1):
+    """Deeds at a hall of this house, as tuples of the method's name and its arguments; some of them are refused."""
+    chance = random.Random(seed)
+    belts, carts = [belt[0] for belt in house[0]], house[1]
+    bags = [one + other for one in "abcde" for other in "stuvwxyz"]
+
+    def any_of(right, others):
+        return chance.choice(others if chance.random() < wrong else right)
+
+    def flight():
+        return any_of(["f", "g", "h"], ["none", "A", "", "toolongname"])
+
+    def closing():
+        return any_of([chance.randint(0, 60)], [-1, 0, 999999999])
+
+    def belt():
+        return any_of(belts, carts + ["nowhere", ""])
+
+    for name in ("f", "g"):
+        yield ("flight", name, chance.choice(carts), chance.randint(3, 30))
+    for k in range(count):
+        # The names come one after the other, so that those that were used last are in the house by all odds.
+        bag = any_of([bags[k * len(bags) // count]], ["", "X", "bag one", "toolongname", bags[0]])
+        deed = chance.choice(["flight", "flight", "change", "call_off", "read", "read", "stop or start"]
+                             + ["put"] * 6 + ["turn"] * 7)
+        if deed == "flight":
+            yield (deed, flight(), any_of(carts[1:] or carts, [carts[0], belts[0], "nocart"]), closing())
+        elif deed == "change":
+            yield (deed, flight(), closing())
+        elif deed == "call_off":
+            yield (deed, flight())
+        elif deed == "put":
+            yield (deed, bag, any_of(["f", "g", None], ["h", "none"]), belt())
+        elif deed == "read":
+            yield (deed, bag, flight())
+        elif deed == "turn":
+            yield (deed,)
+        elif chance.random() < 0.2:
+            yield ("stop", belt())
+        else:
+            yield ("start", belt())
+
+
+def some_halls(seed, count):
+    """Houses, small ones and one at the bounds, each with rounds and deeds."""
+    houses = [*small_houses(seed, count, 4), *meeting_houses(seed, count), *[house_at_the_bounds()] * (count // 8)]
+    for number, house in enumerate(houses):
+        yield (house, number % 4, list(some_deeds(seed + number, house, 150)))

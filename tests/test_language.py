@@ -1,6 +1,7 @@
 """The package keeps to ../shared/LANGUAGE.md: the rules that can be seen in one file's tree.
 
-L11, L13, L15, L18, L19, L22 to L24, L26 and L28 are looked at in part or not at all here.
+L11, L13, L15, L18, L19, L22 to L24, L26 and L28 are looked at in part or not at all here. L18's rule on methods
+and values is seen over all files at once.
 """
 
 import ast
@@ -178,6 +179,18 @@ def local_faults(tree):
             yield f"line {node.lineno}: L15: called like a class or an import"
 
 
+def methods_and_values(some_trees):
+    """The names of methods of own classes, and those of values that objects are given."""
+    methods, values = [], []
+    for tree in some_trees:
+        for node in ast.walk(tree):
+            if isinstance(node, ast.ClassDef):
+                methods += [row.name for row in node.body if isinstance(row, ast.FunctionDef)]
+            if isinstance(node, ast.Attribute) and not isinstance(node.ctx, ast.Load):
+                values.append(node.attr)
+    return (methods, values)
+
+
 class Language(unittest.TestCase):
     def test_only_python_files_with_plain_names(self):
         self.assertIn("__init__.py", [path.name for path in parts()])
@@ -219,6 +232,19 @@ class Language(unittest.TestCase):
                     bound.append(row.targets[0].id)
             self.assertEqual(len(bound), len(set(bound)), name)
 
+    def test_methods_and_values(self):
+        methods, values = methods_and_values([tree for name, tree in trees()])
+        self.assertIn("line", values)
+        self.assertIn("flight", methods)
+        self.assertEqual(set(methods) & set(values), set())
+        self.assertEqual([name for name in values if name in PYTHONS_OWN or name == "args"], [])
+        self.assertEqual([name for name in methods if name in PYTHONS_OWN and name not in DOUBLE], [])
+        for name, tree in trees():
+            for row in tree.body:
+                if isinstance(row, ast.ClassDef):
+                    own = methods_and_values([row])[0]
+                    self.assertEqual(len(own), len(set(own)), row.name)
+
     def test_no_two_files_draw_from_one_another(self):
         drawn = {}
         for name, tree in trees():
@@ -253,6 +279,10 @@ class Faults(unittest.TestCase):
         for text in ("def f(g):\n    pass", "def f():\n    g = 1", "def f():\n    for g in a:\n        pass"):
             with self.subTest(text):
                 self.assertNotEqual(list(local_faults(ast.parse("from carry.names import g\n" + text))), [])
+
+    def test_sees_methods_and_values(self):
+        text = "class A:\n    def f(self):\n        self.x = 1\n        self.y += self.z\n        self.w[0] = self.g()"
+        self.assertEqual(methods_and_values([ast.parse(text)]), (["f"], ["x", "y"]))
 
     def test_lets_plain_code_be(self):
         text = (
